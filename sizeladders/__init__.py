@@ -1,0 +1,1 @@
+"""Sizeladders: sizes of several lands led to one another, reckoned exactly."""
