@@ -1,7 +1,7 @@
-"""The form of the program: the rules of LANGUAGE.md as far as the program's parts can meet them.
+"""The form of the program: those rules of LANGUAGE.md that can be looked at by simple means; not every rule in full.
 
-The looker is narrower than the rules: what the program doesn't use yet (sets, generators, `try`, `match`,
-annotations ..) it refuses whole. A later part that needs such a thing widens it by that thing's rule.
+What the program doesn't use yet (sets, generators, `try`, `match`, annotations ..) the looker refuses whole, where
+the rules would allow it. A later part that needs such a thing widens the looker by that thing's rule.
 """
 
 import ast
