@@ -1,14 +1,10 @@
 """Measures: exact fractions, with their texts and how they are read back."""
 
 from sizeladders.errors import NoBottom, NoMeasure
+from sizeladders.kinds import is_whole
 
 FIGURES = "0123456789"
 MOST_FIGURES = 12
-
-
-def is_whole(thing):
-    """Whether thing is a whole number; True and False are none."""
-    return isinstance(thing, int) and not isinstance(thing, bool)
 
 
 def common_part(one, other):

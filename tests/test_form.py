@@ -11,7 +11,7 @@ import pathlib
 import re
 import unittest
 
-from sizeladders import errors, measures, stretches
+from sizeladders import errors, ladders, leading, measures, rising, slips, stretches
 
 TOP = pathlib.Path(__file__).resolve().parent.parent
 PACKAGE = "sizeladders"
@@ -22,10 +22,15 @@ INTERFACE = {
                "NoLand", "LandTwice", "NoBottom", "NothingBack"],
     "measures": ["Measure", "read_measure"],
     "stretches": ["Stretch"],
+    "ladders": ["Ladder", "even"],
+    "slips": ["slip_of", "singles_of", "steps_of"],
+    "rising": ["rise_of", "shows_rise"],
+    "leading": ["led", "led_paper", "shows_led"],
 }
 METHODS = {
     "Measure": ["__init__", "__eq__", "__str__", "__repr__", "plus", "minus", "times", "parted", "is_below"],
     "Stretch": ["__init__", "__eq__", "__str__", "__repr__", "holds", "meets", "shared", "cut"],
+    "Ladder": ["__init__", "__eq__", "__str__", "__repr__", "__len__", "size", "stretch"],
     "Slip": ["__init__"], "NoText": ["__init__"], "NoSize": ["__init__"], "NoLand": ["__init__"],
     "LandTwice": ["__init__"],
 }
@@ -324,6 +329,13 @@ class TheInterface(unittest.TestCase):
             stretches.Stretch: "(low, high, low_in=False, high_in=True)",
             stretches.Stretch.holds: "(self, measure)", stretches.Stretch.meets: "(self, other)",
             stretches.Stretch.shared: "(self, other)", stretches.Stretch.cut: "(self, other)",
+            ladders.Ladder: "(marks, rule='up', least=None, most=None)",
+            ladders.Ladder.size: "(self, measure)", ladders.Ladder.stretch: "(self, number)",
+            ladders.even: "(first, step, many, rule='up', least=None, most=None)",
+            slips.slip_of: "(rows)", slips.singles_of: "(rows)", slips.steps_of: "(rows)",
+            rising.rise_of: "(rows)", rising.shows_rise: "(rows, thing)",
+            leading.led: "(one, number, other)", leading.led_paper: "(one, number, other)",
+            leading.shows_led: "(one, number, other, run, paper)",
             errors.Slip: "(row)", errors.NoText: "(row, why='form')", errors.NoSize: "(number)",
             errors.NoLand: "(name)", errors.LandTwice: "(name)",
         }
