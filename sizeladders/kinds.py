@@ -14,3 +14,8 @@ def is_tuple_of(thing, many):
 def are_wholes(thing):
     """Whether thing is a tuple of whole numbers."""
     return isinstance(thing, tuple) and all([is_whole(part) for part in thing])
+
+
+def is_word(thing, word):
+    """Whether thing is just this text."""
+    return isinstance(thing, str) and thing == word

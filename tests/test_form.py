@@ -11,7 +11,7 @@ import pathlib
 import re
 import unittest
 
-from sizeladders import errors, ladders, leading, measures, rising, slips, stretches
+from sizeladders import errors, ladders, leading, measures, parting, rising, roundlooks, rounds, slips, stretches
 
 TOP = pathlib.Path(__file__).resolve().parent.parent
 PACKAGE = "sizeladders"
@@ -26,6 +26,9 @@ INTERFACE = {
     "slips": ["slip_of", "singles_of", "steps_of"],
     "rising": ["rise_of", "shows_rise"],
     "leading": ["led", "led_paper", "shows_led"],
+    "rounds": ["round_from", "most_drift"],
+    "roundlooks": ["shows_round"],
+    "parting": ["parting"],
 }
 METHODS = {
     "Measure": ["__init__", "__eq__", "__str__", "__repr__", "plus", "minus", "times", "parted", "is_below"],
@@ -336,6 +339,9 @@ class TheInterface(unittest.TestCase):
             rising.rise_of: "(rows)", rising.shows_rise: "(rows, thing)",
             leading.led: "(one, number, other)", leading.led_paper: "(one, number, other)",
             leading.shows_led: "(one, number, other, run, paper)",
+            rounds.round_from: "(ladders, number)", rounds.most_drift: "(ladders)",
+            roundlooks.shows_round: "(ladders, number, thing)",
+            parting.parting: "(one, other, low, high, shift=0)",
             errors.Slip: "(row)", errors.NoText: "(row, why='form')", errors.NoSize: "(number)",
             errors.NoLand: "(name)", errors.LandTwice: "(name)",
         }
