@@ -2,9 +2,9 @@
 
 from sizeladders.errors import NoLadder, NoSize, Slip
 from sizeladders.kinds import is_whole
-from sizeladders.measures import Measure
+from sizeladders.measures import Measure, is_measure_or_none
 from sizeladders.slips import slip_of
-from sizeladders.stretches import Stretch, is_end
+from sizeladders.stretches import Stretch
 
 MOST_MARKS = 24
 RULES = ("up", "down", "near")
@@ -20,6 +20,11 @@ def are_marks(thing):
 def is_rule(thing):
     """Whether thing is the name of a rule."""
     return isinstance(thing, str) and thing in RULES
+
+
+def is_span(least, most):
+    """Whether least isn't above most where there are both."""
+    return least is None or most is None or least.is_below(most, True)
 
 
 def midsts_of(marks):
@@ -73,9 +78,9 @@ class Ladder:
             raise NoLadder("the marks of a ladder are a tuple of 1 to 24 Measures")
         if not is_rule(rule):
             raise NoLadder("the rule of a ladder is up, down or near")
-        if not is_end(least) or not is_end(most):
+        if not is_measure_or_none(least) or not is_measure_or_none(most):
             raise NoLadder("least and most of a ladder are Measures or None")
-        if least is not None and most is not None and most.is_below(least):
+        if not is_span(least, most):
             raise NoLadder("the least of a ladder is not above its most")
         slip = slip_of(marks)
         if slip is not None:

@@ -73,6 +73,18 @@ class Measure:
         return here < there or (alike and here == there)
 
 
+def is_measure_or_none(thing):
+    """Whether thing is a Measure or None."""
+    return thing is None or isinstance(thing, Measure)
+
+
+def measure_or(thing, number):
+    """thing, or the Measure of this whole number where it is None."""
+    if thing is None:
+        return Measure(number)
+    return thing
+
+
 def number_words(text):
     """The words of text, which has no sign, at the places of whole part, top and bottom."""
     if "/" not in text:
@@ -104,12 +116,20 @@ def loosely_read(text):
     return measure
 
 
+def measure_in(text):
+    """The Measure whose str text is, each number in it of at most twelve figures, or None."""
+    measure = loosely_read(text)
+    # Only the measure's own str counts, so one comparison refuses every other way to write it.
+    if measure is None or str(measure) != text:
+        return None
+    return measure
+
+
 def read_measure(text):
     """The Measure whose str text is, each number in it of at most twelve figures."""
     if not isinstance(text, str):
         raise NoMeasure("a measure is read from a text only")
-    measure = loosely_read(text)
-    # Only the measure's own str counts, so one comparison refuses every other way to write it.
-    if measure is None or str(measure) != text:
+    measure = measure_in(text)
+    if measure is None:
         raise NoMeasure("the text is no measure's own")
     return measure

@@ -1,6 +1,6 @@
 """The most rows of a table that rise, with numbers that show that no more do."""
 
-from sizeladders.kinds import are_wholes, is_tuple_of
+from sizeladders.kinds import all_below, are_rising, are_wholes, is_tuple_of
 from sizeladders.slips import slip_of
 
 
@@ -31,16 +31,9 @@ def rise_of(rows):
     return tuple(kept_by(heights)), tuple(heights)
 
 
-def all_below(numbers, many):
-    """Whether all of these whole numbers are from 0 to many, many not among them."""
-    return all([0 <= number < many for number in numbers])
-
-
 def is_kept(rows, thing):
     """Whether thing is a rising tuple of numbers of rows that rise."""
-    if not are_wholes(thing) or not all_below(thing, len(rows)):
-        return False
-    if not all([thing[at - 1] < thing[at] for at in range(1, len(thing))]):
+    if not are_rising(thing, len(rows)):
         return False
     return slip_of([rows[number] for number in thing]) is None
 

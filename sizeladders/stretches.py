@@ -1,12 +1,7 @@
 """Stretches: all measures between two ends, each end in or not, or missing."""
 
 from sizeladders.errors import NoStretch
-from sizeladders.measures import Measure
-
-
-def is_end(thing):
-    """Whether thing may be an end of a stretch."""
-    return thing is None or isinstance(thing, Measure)
+from sizeladders.measures import Measure, is_measure_or_none
 
 
 def is_empty(low, high, low_in, high_in):
@@ -66,7 +61,7 @@ class Stretch:
     """All measures from low to high; None is no end on that side."""
 
     def __init__(self, low, high, low_in=False, high_in=True):
-        if not is_end(low) or not is_end(high):
+        if not is_measure_or_none(low) or not is_measure_or_none(high):
             raise NoStretch("an end of a stretch is a Measure or None")
         if not isinstance(low_in, bool) or not isinstance(high_in, bool):
             raise NoStretch("whether an end is in is True or False")

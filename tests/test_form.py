@@ -11,7 +11,8 @@ import pathlib
 import re
 import unittest
 
-from sizeladders import errors, ladders, leading, measures, parting, rising, roundlooks, rounds, slips, stretches
+from sizeladders import (errors, grids, ladders, leading, measures, parting, partlooks, rising, roundlooks, rounds, slips,
+                         stock, stocklooks, stretches)
 
 TOP = pathlib.Path(__file__).resolve().parent.parent
 PACKAGE = "sizeladders"
@@ -29,11 +30,16 @@ INTERFACE = {
     "rounds": ["round_from", "most_drift"],
     "roundlooks": ["shows_round"],
     "parting": ["parting"],
+    "partlooks": ["shows_parting"],
+    "stock": ["fits", "stock_for"],
+    "stocklooks": ["shows_stock"],
+    "grids": ["Grid"],
 }
 METHODS = {
     "Measure": ["__init__", "__eq__", "__str__", "__repr__", "plus", "minus", "times", "parted", "is_below"],
     "Stretch": ["__init__", "__eq__", "__str__", "__repr__", "holds", "meets", "shared", "cut"],
     "Ladder": ["__init__", "__eq__", "__str__", "__repr__", "__len__", "size", "stretch"],
+    "Grid": ["__init__", "long_mark", "broad_mark", "own"],
     "Slip": ["__init__"], "NoText": ["__init__"], "NoSize": ["__init__"], "NoLand": ["__init__"],
     "LandTwice": ["__init__"],
 }
@@ -54,6 +60,8 @@ BARRED_NAMES = "register mro elements open input law version_info with_traceback
 BARRED_WORDS = """type typing typing_extensions enum Enum IntEnum StrEnum Flag IntFlag Generic Protocol ABC ABCMeta
 namedtuple NamedTuple TypedDict TYPE_CHECKING abstractmethod""".split()
 BARRED_PARTS = ["dataclass", "overload", "contextmanager"]
+LIST_TAKERS = "list tuple dict sorted sum any all enumerate zip reversed min max".split()
+GONE_THROUGH = "zip enumerate reversed range".split()
 TAKEN = {name for kind in [str, int, list, dict, set, bytes, tuple] for name in dir(kind)}
 
 
@@ -239,6 +247,54 @@ def is_string(node):
     return isinstance(node, ast.JoinedStr) or (isinstance(node, ast.Constant) and isinstance(node.value, str))
 
 
+def faults_of_locals(shape):
+    """L15: nothing in a function is called as a class or an import of its file."""
+    taken = {node.name for node in shape.classes}
+    taken |= {name for node in shape.tree.body if isinstance(node, ast.ImportFrom) for name in shape.names_of_row(node)}
+    for node in shape.nodes:
+        if isinstance(node, (ast.Name, ast.arg)):
+            for name in bound(node):
+                if name in taken:
+                    yield f"L15 {name} is a class or an import"
+
+
+def faults_of_calls(shape, shapes):
+    """L3, L22 and L23: what is called, with how much, and what is gone through on the spot."""
+    functions = {row.name: row for other in [*shapes.values(), shape] for row in other.tree.body
+                 if isinstance(row, ast.FunctionDef)}
+    at_once = [node.iter for node in shape.nodes if isinstance(node, (ast.For, ast.comprehension))]
+    for node in shape.nodes:
+        if not isinstance(node, ast.Call):
+            continue
+        name = node.func.id if isinstance(node.func, ast.Name) else None
+        if not isinstance(node.func, (ast.Name, ast.Attribute)):
+            yield "L3 a call of something without a name"
+        if name in functions:
+            arguments = functions[name].args
+            many, most = len(node.args) + len(node.keywords), len(arguments.args)
+            if not most - len(arguments.defaults) <= many <= most:
+                yield f"L22 a call of {name}"
+        if name in LIST_TAKERS:
+            at_once += node.args[:1]
+        if isinstance(node.func, ast.Attribute) and node.func.attr == "join":
+            at_once += node.args
+    for node in shape.nodes:
+        if isinstance(node, ast.Call) and isinstance(node.func, ast.Name) and node.func.id in GONE_THROUGH:
+            if node not in at_once:
+                yield f"L23 {node.func.id} is kept"
+
+
+def faults_of_tables(shape):
+    """L15: a list or dict at module level is only asked by an index or by `in`."""
+    tables = {name for node in shape.tree.body if isinstance(node, ast.Assign) and isinstance(node.value, (ast.List, ast.Dict))
+              for name in shape.names_of_row(node)}
+    asked = [node.value for node in shape.nodes if isinstance(node, ast.Subscript) and isinstance(node.ctx, ast.Load)]
+    asked += [part for node in shape.nodes if isinstance(node, ast.Compare) for part in node.comparators]
+    for node in shape.nodes:
+        if isinstance(node, ast.Name) and isinstance(node.ctx, ast.Load) and node.id in tables and node not in asked:
+            yield f"L15 the table {node.id} is passed on"
+
+
 def faults_of(source, others=None):
     """All faults of a file of the package, beside the other files."""
     shape = Shape(source)
@@ -246,7 +302,8 @@ def faults_of(source, others=None):
     methods = set().union(shape.methods, *[other.methods for other in shapes.values()])
     values = set().union(shape.values, *[other.values for other in shapes.values()])
     return [*faults_of_letters(shape), *faults_of_names(shape, methods, values), *faults_of_parts(shape),
-            *faults_of_imports(shape, shapes), *faults_of_errors(shape), *faults_of_dunders(shape)]
+            *faults_of_imports(shape, shapes), *faults_of_errors(shape), *faults_of_dunders(shape), *faults_of_locals(shape),
+            *faults_of_calls(shape, shapes), *faults_of_tables(shape)]
 
 
 BAD = [
@@ -267,6 +324,10 @@ BAD = [
     "def tell():\n    return 1\nfrom sizeladders.measures import Measure\n", "def tell(xs):\n    xs.sort()\n",
     "def tell():\n" + "    pass\n" * 40, "X = 1\n" * 400, "X = \"" + "a" * 120 + "\"\n", "X = 1\nglobal X\n",
     "def tell(a):\n    return (lambda: a)\n", "def tell(a):\n    yield a\n", "def tell(a):\n    return unknown(a)\n",
+    "from sizeladders.measures import Measure\ndef tell(Measure):\n    return Measure\n", "def tell(a):\n    return tell(a, 1)\n",
+    "def tell(a):\n    return tell()\n", "def tell(a):\n    b = zip(a, a)\n    return b\n", "def tell(a):\n    return range(a)\n",
+    "T = {\"a\": 1}\ndef tell(a):\n    return a(T)\n", "T = [1]\ndef tell(a):\n    T[0] = a\n", "T = [1]\ndef tell(a):\n    return T\n",
+    "def tell(a):\n    return 1\nT = {\"a\": tell}\ndef ask(a):\n    return T[a](a)\n", "T = [1]\ndef tell(a):\n    T.append(a)\n",
     "@staticmethod\ndef tell(a):\n    return a\n", "def tell(a):\n    return f\"{a}\" \"%\"\n",
 ]
 
@@ -342,6 +403,11 @@ class TheInterface(unittest.TestCase):
             rounds.round_from: "(ladders, number)", rounds.most_drift: "(ladders)",
             roundlooks.shows_round: "(ladders, number, thing)",
             parting.parting: "(one, other, low, high, shift=0)",
+            partlooks.shows_parting: "(one, other, low, high, shift, thing)",
+            stock.fits: "(ladder, foot, slack, tight=None)", stock.stock_for: "(ladder, feet, slack, tight=None)",
+            stocklooks.shows_stock: "(ladder, feet, slack, tight, thing)",
+            grids.Grid: "(lengths, breadths, grade=None)", grids.Grid.long_mark: "(self, pair)",
+            grids.Grid.broad_mark: "(self, pair)", grids.Grid.own: "(self, foot)",
             errors.Slip: "(row)", errors.NoText: "(row, why='form')", errors.NoSize: "(number)",
             errors.NoLand: "(name)", errors.LandTwice: "(name)",
         }

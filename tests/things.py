@@ -3,6 +3,7 @@
 from fractions import Fraction
 
 from sizeladders.errors import NoMeasure, NoText
+from sizeladders.grids import Grid
 from sizeladders.ladders import Ladder
 from sizeladders.measures import Measure
 from sizeladders.stretches import Stretch
@@ -40,6 +41,15 @@ class LooksLikeLadder:
 
     def __len__(self):
         return len(self.marks)
+
+
+class LooksLikeGrid:
+    """Has a grid's values, but is of another kind."""
+
+    def __init__(self, lengths, breadths, grade):
+        self.lengths = lengths
+        self.breadths = breadths
+        self.grade = grade
 
 
 class LikeAll:
@@ -93,6 +103,10 @@ def nested(thing, wrap, deep=30):
     return thing
 
 
+def a_grid():
+    return Grid(Ladder((Measure(1), Measure(2))), Ladder((Measure(1),)))
+
+
 def other_things():
     """Things of many kinds: no whole number, no Measure, no truth and not None among them."""
     return [
@@ -102,6 +116,7 @@ def other_things():
         range(1), object(), len, int, Measure, Stretch, NoMeasure("text"), NoText(0), Fraction(1, 2), Fraction(1),
         LooksWhole(), LooksLikeMeasure(1, 1), LooksLikeStretch(None, None, False, False),
         Ladder((Measure(-99, 7),), "near"), LooksLikeLadder((Measure(1),)), Ladder, "up", ("up",),
+        a_grid(), LooksLikeGrid(a_grid().lengths, a_grid().breadths, Measure(0)), Grid,
         nested(1, lambda thing: (thing,)), nested(1, lambda thing: [thing]), nested(1, lambda thing: {1: thing}),
         nested(Measure(1), lambda thing: (thing, [thing]), 10), nested((), lambda thing: (thing,)),
         nested([], lambda thing: [thing]), nested({}, lambda thing: {"a": [thing]}, 15),
@@ -159,7 +174,7 @@ def other_kinds(thing):
                     Measure(thing)]
     elif isinstance(thing, str):
         yield from [thing + " ", thing.upper(), thing[:-1], thing.encode(), "alike", "part", "at", "behind", "comes",
-                    "stops", "even", "odd"]
+                    "stops", "even", "odd", "never", "stock", "pair", "none", "short", "long", "narrow", "broad"]
     elif isinstance(thing, Measure):
         yield from [thing.plus(TINY), thing.minus(TINY), thing.plus(Measure(1)), thing.minus(Measure(1)),
                     Measure(10 ** 30), Measure(-10 ** 30), thing.top, str(thing), (thing.top, thing.bottom),
