@@ -11,13 +11,13 @@ import pathlib
 import re
 import unittest
 
-from sizeladders import (errors, grids, ladders, leading, measures, parting, partlooks, rising, roundlooks, rounds, slips,
-                         stock, stocklooks, stretches)
+from sizeladders import (desk, errors, grids, ladders, lands, leading, measures, pairs, parting, partlooks, reading, rising,
+                         roundlooks, rounds, slips, stock, stocklooks, stretches)
 
 TOP = pathlib.Path(__file__).resolve().parent.parent
 PACKAGE = "sizeladders"
 
-# The interface as far as it has landed: what each file defines, and what each class has.
+# The interface: what each file defines, and what each class has.
 INTERFACE = {
     "errors": ["LadderError", "NoMeasure", "NoStretch", "NoLadder", "NoLine", "Slip", "NoText", "LandError", "NoSize",
                "NoLand", "LandTwice", "NoBottom", "NothingBack"],
@@ -34,12 +34,19 @@ INTERFACE = {
     "stock": ["fits", "stock_for"],
     "stocklooks": ["shows_stock"],
     "grids": ["Grid"],
+    "pairs": ["broken", "pair_for", "shows_pair"],
+    "lands": ["Lands"],
+    "reading": ["read_ladder", "read_lands"],
+    "desk": ["Desk"],
 }
 METHODS = {
     "Measure": ["__init__", "__eq__", "__str__", "__repr__", "plus", "minus", "times", "parted", "is_below"],
     "Stretch": ["__init__", "__eq__", "__str__", "__repr__", "holds", "meets", "shared", "cut"],
     "Ladder": ["__init__", "__eq__", "__str__", "__repr__", "__len__", "size", "stretch"],
     "Grid": ["__init__", "long_mark", "broad_mark", "own"],
+    "Lands": ["__init__", "__eq__", "__str__", "__repr__", "__len__", "tell", "drop", "back", "ladder", "label", "called",
+              "lead", "names"],
+    "Desk": ["__init__", "say"],
     "Slip": ["__init__"], "NoText": ["__init__"], "NoSize": ["__init__"], "NoLand": ["__init__"],
     "LandTwice": ["__init__"],
 }
@@ -258,10 +265,16 @@ def faults_of_locals(shape):
                     yield f"L15 {name} is a class or an import"
 
 
+def imported_by(shape):
+    """(file, name) of all that is imported."""
+    return [((node.module or "").rpartition(".")[2], name.name) for node in shape.tree.body if isinstance(node, ast.ImportFrom)
+            for name in node.names]
+
+
 def faults_of_calls(shape, shapes):
     """L3, L22 and L23: what is called, with how much, and what is gone through on the spot."""
-    functions = {row.name: row for other in [*shapes.values(), shape] for row in other.tree.body
-                 if isinstance(row, ast.FunctionDef)}
+    functions = {row.name: row for name, other in [*shapes.items(), ("", shape)] for row in other.tree.body
+                 if isinstance(row, ast.FunctionDef) and (other == shape or (name, row.name) in imported_by(shape))}
     at_once = [node.iter for node in shape.nodes if isinstance(node, (ast.For, ast.comprehension))]
     for node in shape.nodes:
         if not isinstance(node, ast.Call):
@@ -325,7 +338,8 @@ BAD = [
     "def tell():\n" + "    pass\n" * 40, "X = 1\n" * 400, "X = \"" + "a" * 120 + "\"\n", "X = 1\nglobal X\n",
     "def tell(a):\n    return (lambda: a)\n", "def tell(a):\n    yield a\n", "def tell(a):\n    return unknown(a)\n",
     "from sizeladders.measures import Measure\ndef tell(Measure):\n    return Measure\n", "def tell(a):\n    return tell(a, 1)\n",
-    "def tell(a):\n    return tell()\n", "def tell(a):\n    b = zip(a, a)\n    return b\n", "def tell(a):\n    return range(a)\n",
+    "def tell(a):\n    return tell()\n",
+    "from sizeladders.kinds import is_word\ndef tell(a):\n    return is_word(a)\n", "def tell(a):\n    b = zip(a, a)\n    return b\n", "def tell(a):\n    return range(a)\n",
     "T = {\"a\": 1}\ndef tell(a):\n    return a(T)\n", "T = [1]\ndef tell(a):\n    T[0] = a\n", "T = [1]\ndef tell(a):\n    return T\n",
     "def tell(a):\n    return 1\nT = {\"a\": tell}\ndef ask(a):\n    return T[a](a)\n", "T = [1]\ndef tell(a):\n    T.append(a)\n",
     "@staticmethod\ndef tell(a):\n    return a\n", "def tell(a):\n    return f\"{a}\" \"%\"\n",
@@ -408,6 +422,14 @@ class TheInterface(unittest.TestCase):
             stocklooks.shows_stock: "(ladder, feet, slack, tight, thing)",
             grids.Grid: "(lengths, breadths, grade=None)", grids.Grid.long_mark: "(self, pair)",
             grids.Grid.broad_mark: "(self, pair)", grids.Grid.own: "(self, foot)",
+            pairs.broken: "(grid, pair, foot, slack)", pairs.pair_for: "(grid, feet, slack)",
+            pairs.shows_pair: "(grid, feet, slack, thing)",
+            lands.Lands: "()", lands.Lands.tell: "(self, name, ladder, first=None, step=None)",
+            lands.Lands.drop: "(self, name)", lands.Lands.back: "(self)", lands.Lands.ladder: "(self, name)",
+            lands.Lands.label: "(self, name, number)", lands.Lands.called: "(self, name, label)",
+            lands.Lands.lead: "(self, name, label, other)", lands.Lands.names: "(self)",
+            reading.read_ladder: "(text)", reading.read_lands: "(text)",
+            desk.Desk: "(text='none')", desk.Desk.say: "(self, line)",
             errors.Slip: "(row)", errors.NoText: "(row, why='form')", errors.NoSize: "(number)",
             errors.NoLand: "(name)", errors.LandTwice: "(name)",
         }

@@ -2,9 +2,11 @@
 
 from fractions import Fraction
 
+from sizeladders.desk import Desk
 from sizeladders.errors import NoMeasure, NoText
 from sizeladders.grids import Grid
 from sizeladders.ladders import Ladder
+from sizeladders.lands import Lands
 from sizeladders.measures import Measure
 from sizeladders.stretches import Stretch
 
@@ -107,6 +109,12 @@ def a_grid():
     return Grid(Ladder((Measure(1), Measure(2))), Ladder((Measure(1),)))
 
 
+def a_book():
+    book = Lands()
+    book.tell("uk", Ladder((Measure(1), Measure(2))))
+    return book
+
+
 def other_things():
     """Things of many kinds: no whole number, no Measure, no truth and not None among them."""
     return [
@@ -116,7 +124,7 @@ def other_things():
         range(1), object(), len, int, Measure, Stretch, NoMeasure("text"), NoText(0), Fraction(1, 2), Fraction(1),
         LooksWhole(), LooksLikeMeasure(1, 1), LooksLikeStretch(None, None, False, False),
         Ladder((Measure(-99, 7),), "near"), LooksLikeLadder((Measure(1),)), Ladder, "up", ("up",),
-        a_grid(), LooksLikeGrid(a_grid().lengths, a_grid().breadths, Measure(0)), Grid,
+        Lands(), a_book(), Lands, Desk(), a_grid(), LooksLikeGrid(a_grid().lengths, a_grid().breadths, Measure(0)), Grid,
         nested(1, lambda thing: (thing,)), nested(1, lambda thing: [thing]), nested(1, lambda thing: {1: thing}),
         nested(Measure(1), lambda thing: (thing, [thing]), 10), nested((), lambda thing: (thing,)),
         nested([], lambda thing: [thing]), nested({}, lambda thing: {"a": [thing]}, 15),
